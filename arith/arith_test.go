@@ -6,6 +6,7 @@ import (
 	"testing"
 
 	"saltern/api"
+	"saltern/marks"
 )
 
 // sizes: each size that counts as one of 1, 2, 4 bytes for itself, and ones that are none of these, with the bits that they stand for.
@@ -27,28 +28,6 @@ var edges = []uint32{
 	0x10000, 0x10001, 0x17fff, 0x18000, 0x1ffff, 0x12345678, 0x55555555,
 	0x7ffffffe, 0x7fffffff, 0x80000000, 0x80000001, 0xaaaaaaaa, 0xdeadbeef,
 	0xffff0000, 0xffff8000, 0xffffff7f, 0xffffff80, 0xfffffffe, 0xffffffff,
-}
-
-// marks tells flags by the letters of those that are set.
-func marks(s string) api.Flags {
-	var f api.Flags
-	for _, c := range s {
-		switch c {
-		case 'C':
-			f.C = true
-		case 'P':
-			f.P = true
-		case 'Z':
-			f.Z = true
-		case 'S':
-			f.S = true
-		case 'O':
-			f.O = true
-		case 'D':
-			f.D = true
-		}
-	}
-	return f
 }
 
 // number answers v's lowest n bits as a whole number without and with a sign, reckoned by remainders.
@@ -210,11 +189,11 @@ func TestSumsByHand(t *testing.T) {
 		{0x101, 0xff, -1, false, 0, "CZP", 2, "C"},
 	} {
 		v, f := Add(x.a, x.b, x.size, x.carry)
-		if v != x.add || f != marks(x.f) {
+		if v != x.add || f != marks.Of(x.f) {
 			t.Errorf("P1.2: Add %d: %#x %+v", i, v, f)
 		}
 		v, f = Sub(x.a, x.b, x.size, x.carry)
-		if v != x.sub || f != marks(x.g) {
+		if v != x.sub || f != marks.Of(x.g) {
 			t.Errorf("P1.2: Sub %d: %#x %+v", i, v, f)
 		}
 	}
@@ -239,7 +218,7 @@ func TestLogic(t *testing.T) {
 		{0, 1, 0, "ZP"}, {0x100, 1, 0, "ZP"}, {0x80, 1, 0x80, "S"}, {0x80, 2, 0x80, ""}, {0x8003, 3, 0x8003, "SP"},
 		{0x80000000, 4, 0x80000000, "SP"}, {0x80000000, 2, 0, "ZP"}, {0x1ff, 0, 0xff, "SP"}, {0x7fffffff, 77, 0x7fffffff, "P"},
 	} {
-		if v, f := Logic(x.v, x.size); v != x.want || f != marks(x.f) {
+		if v, f := Logic(x.v, x.size); v != x.want || f != marks.Of(x.f) {
 			t.Errorf("P1.2: Logic %d: %#x %+v", i, v, f)
 		}
 	}
@@ -249,7 +228,7 @@ func TestStep(t *testing.T) {
 	ups := []int{1, 2, 5, math.MaxInt}
 	downs := []int{-1, 0, -2, -5, math.MinInt}
 	for _, before := range []string{"", "C", "D", "CD", "PZSO", "CPZSOD"} {
-		f := marks(before)
+		f := marks.Of(before)
 		for _, s := range sizes {
 			for _, v := range edges {
 				up, uf := modelAdd(v, 1, s.bits, 0)
@@ -280,7 +259,7 @@ func TestStepByHand(t *testing.T) {
 		{"", 0x7fff, 3, 9, 0x8000, "SPO"}, {"", 0x8000, 2, 0, 0x7fff, "PO"},
 		{"C", 0xffffffff, 4, 1, 0, "CZP"}, {"", 0, 8, -9, 0xffffffff, "SP"}, {"", 0x1ff, -3, 2, 0, "ZP"},
 	} {
-		checkStep(t, marks(x.before), x.v, x.size, x.by, x.want, marks(x.after))
+		checkStep(t, marks.Of(x.before), x.v, x.size, x.by, x.want, marks.Of(x.after))
 	}
 }
 

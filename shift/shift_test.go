@@ -6,6 +6,7 @@ import (
 	"testing"
 
 	"saltern/api"
+	"saltern/marks"
 )
 
 // ops: the five, with what moves a bit at a time for each of them.
@@ -108,15 +109,6 @@ func counts() []uint32 {
 	return all
 }
 
-// befores: all the flags that can be there before.
-func befores() []api.Flags {
-	var all []api.Flags
-	for i := range 64 {
-		all = append(all, api.Flags{C: i&1 != 0, P: i&2 != 0, Z: i&4 != 0, S: i&8 != 0, O: i&16 != 0, D: i&32 != 0})
-	}
-	return all
-}
-
 // others: ops that are none of the five, ones that no instruction has among them.
 func others() []int {
 	all := []int{math.MinInt, math.MinInt32, -1000, math.MaxInt32, math.MaxInt}
@@ -130,28 +122,6 @@ func others() []int {
 		all = append(all, -x.op, x.op+0x100, x.op-0x100, x.op|1<<16)
 	}
 	return all
-}
-
-// marks tells flags by the letters of those that are set.
-func marks(s string) api.Flags {
-	var f api.Flags
-	for _, c := range s {
-		switch c {
-		case 'C':
-			f.C = true
-		case 'P':
-			f.P = true
-		case 'Z':
-			f.Z = true
-		case 'S':
-			f.S = true
-		case 'O':
-			f.O = true
-		case 'D':
-			f.D = true
-		}
-	}
-	return f
 }
 
 func TestKnown(t *testing.T) {
@@ -168,7 +138,7 @@ func TestKnown(t *testing.T) {
 }
 
 func TestDoByOneBitAtATime(t *testing.T) {
-	before := befores()
+	before := marks.All()
 	for _, x := range ops {
 		for _, v := range numbers() {
 			for _, n := range counts() {
@@ -244,7 +214,7 @@ func TestDoByHand(t *testing.T) {
 		{0, "OD", 5, 3, 5, "OD"},
 		{-1, "", 5, 3, 5, ""},
 	} {
-		if r, g := Do(x.op, marks(x.before), x.v, x.n); r != x.want || g != marks(x.after) {
+		if r, g := Do(x.op, marks.Of(x.before), x.v, x.n); r != x.want || g != marks.Of(x.after) {
 			t.Errorf("P2.1, P2.2: %d: %#x %+v, not %#x %s", i, r, g, x.want, x.after)
 		}
 	}
@@ -254,7 +224,7 @@ func TestCountOfNothing(t *testing.T) {
 	for _, x := range ops {
 		for _, v := range numbers() {
 			for _, n := range []uint32{0, 32, 64, 1024, 0x80000000, 0xffffffe0} {
-				for _, f := range befores() {
+				for _, f := range marks.All() {
 					if r, g := Do(x.op, f, v, n); r != v || g != f {
 						t.Fatalf("P2.1: Do(%s, %+v, %#x, %d): %#x %+v", x.name, f, v, n, r, g)
 					}
@@ -268,7 +238,7 @@ func TestOtherOps(t *testing.T) {
 	for _, op := range others() {
 		for _, v := range []uint32{0, 1, 0x80000000, 0x80000001, 0x12345678, 0xffffffff} {
 			for _, n := range []uint32{0, 1, 5, 31, 32, 33, 0xffffffff} {
-				for _, f := range befores() {
+				for _, f := range marks.All() {
 					if r, g := Do(op, f, v, n); r != v || g != f {
 						t.Fatalf("P2.1: Do(%d, %+v, %#x, %d): %#x %+v", op, f, v, n, r, g)
 					}
