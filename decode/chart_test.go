@@ -9,6 +9,7 @@ import (
 
 	"saltern/api"
 	"saltern/modrm"
+	"saltern/operands"
 )
 
 // chart: P10.1's table without its first row and that of 80, 81, 83. +r: eight opcodes, by a register; +c: sixteen, by a condition; /n: of that reg alone.
@@ -215,27 +216,7 @@ func unhex(written string) []byte {
 }
 
 // none, reg, low, dbl, imm, mem: operands as the chapter writes them.
-func none() api.Operand { return api.Operand{Base: -1, Index: -1, Scale: 1} }
-
-func reg(r int) api.Operand {
-	return api.Operand{Kind: api.Reg, Reg: r, Base: -1, Index: -1, Scale: 1}
-}
-
-func low(r int) api.Operand {
-	return api.Operand{Kind: api.Low, Reg: r, Base: -1, Index: -1, Scale: 1}
-}
-
-func dbl(r int) api.Operand {
-	return api.Operand{Kind: api.Dbl, Reg: r, Base: -1, Index: -1, Scale: 1}
-}
-
-func imm(v uint32) api.Operand {
-	return api.Operand{Kind: api.Imm, Base: -1, Index: -1, Scale: 1, Disp: v}
-}
-
-func mem(base, index, scale int, disp uint32) api.Operand {
-	return api.Operand{Kind: api.Mem, Base: base, Index: index, Scale: scale, Disp: disp}
-}
+var none, reg, low, dbl, imm, mem = operands.None, operands.Reg, operands.Low, operands.Dbl, operands.Imm, operands.Mem
 
 // want answers what One should, by the chart.
 func (all charted) want(b []byte) (api.Instr, api.Errno) {

@@ -8,16 +8,11 @@ import (
 	"testing"
 
 	"saltern/api"
+	"saltern/operands"
 )
 
 // reg and mem: operands as the chapter writes them.
-func reg(r int) api.Operand {
-	return api.Operand{Kind: api.Reg, Reg: r, Base: -1, Index: -1, Scale: 1}
-}
-
-func mem(base, index, scale int, disp uint32) api.Operand {
-	return api.Operand{Kind: api.Mem, Base: base, Index: index, Scale: scale, Disp: disp}
-}
+var reg, mem = operands.Reg, operands.Mem
 
 // size answers how many bytes an operand of these first two has, by quotients and rests.
 func size(first, second byte) int {
@@ -93,37 +88,6 @@ func putNone(t *testing.T, r int, o api.Operand) {
 	if got, err := Put(r, o); len(got) != 0 || err != api.ErrInstr {
 		t.Fatalf("P9.2: Put(%d, %+v): % x, %d, not ErrInstr", r, o, got, err)
 	}
-}
-
-// disps: numbers about those that one byte holds, and about the ends.
-func disps() []uint32 {
-	return []uint32{
-		0, 1, 2, 0x7e, 0x7f, 0x80, 0x81, 0xfe, 0xff, 0x100, 0x101, 0x180, 0x7fff, 0x8000, 0xff80, 0xffff, 0x12345678, 0x78563412,
-		0x7f000000, 0x7fffffff, 0x80000000, 0x80000001, 0x8000007f, 0xff000000, 0xffffff00, 0xffffff7e, 0xffffff7f, 0xffffff80, 0xffffff81, 0xfffffffe, 0xffffffff,
-	}
-}
-
-// rights: every operand of memory that is Right, of one Disp.
-func rights(disp uint32) []api.Operand {
-	var all []api.Operand
-	for _, base := range []int{-1, 0, 1, 2, 3, 4, 5, 6, 7} {
-		all = append(all, mem(base, -1, 1, disp))
-		for _, index := range []int{0, 1, 2, 3, 5, 6, 7} {
-			for _, scale := range []int{1, 2, 4, 8} {
-				all = append(all, mem(base, index, scale, disp))
-			}
-		}
-	}
-	return all
-}
-
-// like: numbers that a cut, or a look at some of the bits, would take for v, and the ends of all ints.
-func like(v int) []int {
-	all := []int{math.MinInt, math.MinInt + 1, math.MaxInt - 1, math.MaxInt, math.MinInt32, math.MaxInt32, math.MinInt + v}
-	for _, far := range []int{16, 32, 64, 1 << 8, 1 << 16, 1 << 32, 1 << 33, 1 << 62} {
-		all = append(all, v+far, v-far)
-	}
-	return all
 }
 
 func TestReadByHand(t *testing.T) {
@@ -245,8 +209,8 @@ func TestReadLeavesItsBytes(t *testing.T) {
 }
 
 func TestRightOfAllThatAre(t *testing.T) {
-	for _, disp := range disps() {
-		for _, o := range rights(disp) {
+	for _, disp := range operands.Disps() {
+		for _, o := range operands.Rights(disp) {
 			if !Right(o) {
 				t.Fatalf("P9.1: Right(%+v): false", o)
 			}
@@ -258,7 +222,7 @@ func TestRightOfAllThatAre(t *testing.T) {
 func TestRightAgainstTheList(t *testing.T) {
 	listed := map[api.Operand]bool{}
 	for _, disp := range []uint32{0, 0x80000000} {
-		for _, o := range rights(disp) {
+		for _, o := range operands.Rights(disp) {
 			listed[o] = true
 		}
 	}
@@ -300,18 +264,13 @@ func TestRightByHand(t *testing.T) {
 	}
 }
 
-// ints answers where an operand's ints are, so that each can be changed on its own.
-func ints(o *api.Operand) []*int {
-	return []*int{&o.Kind, &o.Reg, &o.Base, &o.Index, &o.Scale}
-}
-
 // Numbers that would pass for right ones by some of their bits, in each field on its own.
 func TestWrongFields(t *testing.T) {
-	for _, o := range append(rights(5), reg(0), reg(3), reg(7)) {
-		for i := range ints(&o) {
-			for _, v := range like(*ints(&o)[i]) {
+	for _, o := range append(operands.Rights(5), reg(0), reg(3), reg(7)) {
+		for i := range operands.Ints(&o) {
+			for _, v := range operands.Like(*operands.Ints(&o)[i]) {
 				wrong := o
-				*ints(&wrong)[i] = v
+				*operands.Ints(&wrong)[i] = v
 				if Right(wrong) {
 					t.Fatalf("P9.1: Right(%+v): true", wrong)
 				}
@@ -391,10 +350,10 @@ func spellings(disp uint32) map[told][]byte {
 
 // Each reg and each operand that is Right: of all bytes that tell it, the shortest, of these the least.
 func TestPutAgainstAllBytes(t *testing.T) {
-	for _, disp := range disps() {
+	for _, disp := range operands.Disps() {
 		best := spellings(disp)
 		for r := range 8 {
-			for _, o := range append(rights(disp), reg(0), reg(1), reg(2), reg(3), reg(4), reg(5), reg(6), reg(7)) {
+			for _, o := range append(operands.Rights(disp), reg(0), reg(1), reg(2), reg(3), reg(4), reg(5), reg(6), reg(7)) {
 				row := best[told{r, o}]
 				if row == nil {
 					t.Fatalf("P9.3: no bytes tell %+v, %d", o, r)
@@ -408,12 +367,12 @@ func TestPutAgainstAllBytes(t *testing.T) {
 // Read of what Put answers is what Put was told, with no byte over and none too few.
 func TestReadOfPut(t *testing.T) {
 	picks := rand.New(rand.NewSource(9))
-	all := disps()
+	all := operands.Disps()
 	for range 200 {
 		all = append(all, picks.Uint32(), uint32(picks.Intn(512)-256))
 	}
 	for _, disp := range all {
-		for _, o := range append(rights(disp), reg(int(disp%8))) {
+		for _, o := range append(operands.Rights(disp), reg(int(disp%8))) {
 			r := picks.Intn(8)
 			row, err := Put(r, o)
 			got, gotReg, n, gotErr := Read(row)
@@ -448,7 +407,7 @@ func TestPutOfRead(t *testing.T) {
 func TestPutOfWrongRegs(t *testing.T) {
 	wrong := []int{-1, -2, -8, 8, 9, 15, math.MinInt, math.MaxInt}
 	for r := range 8 {
-		wrong = append(wrong, like(r)...)
+		wrong = append(wrong, operands.Like(r)...)
 	}
 	for _, r := range wrong {
 		putNone(t, r, mem(0, -1, 1, 0))
@@ -500,7 +459,7 @@ func TestPutTakesWhatIsRight(t *testing.T) {
 
 // Each answer is memory of its own.
 func TestPutAnswersNewMemory(t *testing.T) {
-	for _, o := range append(rights(0x81), reg(6)) {
+	for _, o := range append(operands.Rights(0x81), reg(6)) {
 		row, _ := Put(5, o)
 		before := slices.Clone(row)
 		other, _ := Put(5, o)
