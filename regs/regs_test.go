@@ -6,38 +6,13 @@ import (
 	"testing"
 
 	"saltern/api"
-	"saltern/marks"
 	"saltern/operands"
 	"saltern/regs"
+	"saltern/states"
 )
 
 // reg, low, dbl, imm: operands as the chapters write them.
 var reg, low, dbl, imm = operands.Reg, operands.Low, operands.Dbl, operands.Imm
-
-// full: a state in which each byte is unlike all others of its kind, and no two flags beside each other are alike.
-func full() api.State {
-	return api.State{
-		R:  [8]uint32{0x04030201, 0x18171615, 0x2c2b2a29, 0x3f3e3d3c, 0x84838281, 0x98979695, 0xacabaaa9, 0xffbebdbc},
-		IP: 0x12345678,
-		F:  marks.Of("CZOD"),
-		X: [8]uint64{
-			0x0807060504030201, 0x1817161514131211, 0x2827262524232221, 0x3837363534333231,
-			0x8887868584838281, 0x9897969594939291, 0xa8a7a6a5a4a3a2a1, 0xf8f7f6f5f4f3f2f1,
-		},
-	}
-}
-
-// states: full, its opposite in each bit, all noughts, all ones.
-func states() []api.State {
-	s, opposite, ones := full(), full(), full()
-	opposite.IP, opposite.F = ^s.IP, marks.Of("PS")
-	ones.IP, ones.F = math.MaxUint32, marks.Of("CPZSOD")
-	for r := range 8 {
-		opposite.R[r], opposite.X[r] = ^s.R[r], ^s.X[r]
-		ones.R[r], ones.X[r] = math.MaxUint32, math.MaxUint64
-	}
-	return []api.State{s, opposite, {}, ones}
-}
 
 // values: each bit alone and each but one, ones that are unlike in all bytes, whole numbers, doubles of every kind.
 func values() []uint64 {
@@ -142,14 +117,14 @@ func TestGetByHand(t *testing.T) {
 		},
 	} {
 		for r, v := range want {
-			get(t, full(), api.Operand{Kind: kind, Reg: r, Base: -1, Index: -1, Scale: 1}, v)
+			get(t, states.Full(), api.Operand{Kind: kind, Reg: r, Base: -1, Index: -1, Scale: 1}, v)
 		}
 	}
 }
 
 // Kind and Reg alone say which register it is.
 func TestGet(t *testing.T) {
-	for _, s := range states() {
+	for _, s := range states.All() {
 		for _, o := range places() {
 			b := rowOf(s)
 			want := number(b.part(o))
@@ -161,7 +136,7 @@ func TestGet(t *testing.T) {
 }
 
 func TestGetOfImm(t *testing.T) {
-	for _, s := range states() {
+	for _, s := range states.All() {
 		for _, v := range values() {
 			get(t, s, imm(uint32(v)), v%(1<<32))
 			for r := range 8 {
@@ -183,14 +158,14 @@ func TestSetByHand(t *testing.T) {
 		{low(3), 0xffffffffffffff00, 0x04030201, 0x3f3e3d00, 0x2827262524232221}, {low(7), 0x12345600, 0x04030201, 0x3f3e003c, 0x2827262524232221},
 		{dbl(2), 0xfff800000000beef, 0x04030201, 0x3f3e3d3c, 0xfff800000000beef}, {dbl(2), 0x7ff0000000000001, 0x04030201, 0x3f3e3d3c, 0x7ff0000000000001},
 	} {
-		want := full()
+		want := states.Full()
 		want.R[api.EAX], want.R[api.EBX], want.X[2] = x.r, x.w, x.x
-		set(t, full(), x.o, x.v, want)
+		set(t, states.Full(), x.o, x.v, want)
 	}
 }
 
 func TestSet(t *testing.T) {
-	for _, s := range states() {
+	for _, s := range states.All() {
 		for _, o := range places() {
 			for _, v := range values() {
 				set(t, s, o, v, after(s, o, v))
@@ -204,10 +179,10 @@ func TestSet(t *testing.T) {
 // Two states that were made of one share no register.
 func TestSetTwice(t *testing.T) {
 	for _, o := range places() {
-		s := full()
+		s := states.Full()
 		first := regs.Set(s, o, 0)
 		second := regs.Set(first, o, math.MaxUint64)
-		if s != full() || first != after(full(), o, 0) || second != after(full(), o, math.MaxUint64) {
+		if s != states.Full() || first != after(states.Full(), o, 0) || second != after(states.Full(), o, math.MaxUint64) {
 			t.Errorf("P13.1: Set of %+v, twice: %+v, %+v, %+v", o, s, first, second)
 		}
 	}
@@ -217,7 +192,7 @@ func TestSetTwice(t *testing.T) {
 func TestBytesAreBytesOfRegisters(t *testing.T) {
 	for r := range 8 {
 		for v := range uint64(256) {
-			s := regs.Set(full(), low(r), v)
+			s := regs.Set(states.Full(), low(r), v)
 			get(t, s, low(r), v)
 			whole := regs.Get(s, reg(r%4))
 			if r >= 4 {
@@ -230,13 +205,13 @@ func TestBytesAreBytesOfRegisters(t *testing.T) {
 	}
 	for r := range 4 {
 		for _, v := range values() {
-			s := regs.Set(full(), reg(r), v)
+			s := regs.Set(states.Full(), reg(r), v)
 			if first, second := regs.Get(s, low(r)), regs.Get(s, low(r+4)); first != v%256 || second != v/256%256 {
 				t.Errorf("P13.3: register %d is %#x, its bytes %#x and %#x", r, v, first, second)
 			}
-			s = regs.Set(full(), reg(r+4), v)
+			s = regs.Set(states.Full(), reg(r+4), v)
 			for b := range 8 {
-				get(t, s, low(b), regs.Get(full(), low(b)))
+				get(t, s, low(b), regs.Get(states.Full(), low(b)))
 			}
 		}
 	}
@@ -255,7 +230,7 @@ func beyond() []int {
 // nothing asks that o is nothing that can be told or set.
 func nothing(t *testing.T, o api.Operand) {
 	t.Helper()
-	for _, s := range states() {
+	for _, s := range states.All() {
 		get(t, s, o, 0)
 		set(t, s, o, 0, s)
 		set(t, s, o, 0x5a5a5a5a5a5a5a5a, s)
@@ -293,7 +268,7 @@ func TestOtherKinds(t *testing.T) {
 
 // Of what isn't a place Set changes nothing, although an immediate can be told.
 func TestSetOfImm(t *testing.T) {
-	for _, s := range states() {
+	for _, s := range states.All() {
 		for r := range 8 {
 			for _, v := range values() {
 				set(t, s, api.Operand{Kind: api.Imm, Reg: r, Base: -1, Index: -1, Scale: 1, Disp: 5}, v, s)
