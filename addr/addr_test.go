@@ -1,13 +1,13 @@
 package addr_test
 
 import (
-	"maps"
 	"math"
 	"testing"
 
 	"saltern/addr"
 	"saltern/api"
 	"saltern/bus"
+	"saltern/machines"
 	"saltern/mem"
 	"saltern/operands"
 	"saltern/regs"
@@ -20,8 +20,8 @@ const last = math.MaxUint32
 // sample: a number whose bytes are unlike one another and unlike those of memory.
 const sample = 0xf1e2d3c4b5a69788
 
-// open answers a segment that may be read and written, but not run.
-func open(base, size uint32) api.Seg { return api.Seg{Base: base, Size: size, R: true, W: true} }
+// open, alike, aimed: what the tests of several layers say of data.
+var open, alike, aimed = machines.Open, machines.Alike, machines.Aimed
 
 // segs: data in memory's middle and at both its ends, over a page's end, empty, not Right, and shut for each kind of doing.
 func segs() []api.Seg {
@@ -45,22 +45,6 @@ func made(data api.Seg) *bus.Bus {
 	}
 	m.Write(0x40000000, []byte{0xc1, 0xc2, 0xc3, 0xc4, 0xc5, 0xc6, 0xc7, 0xc8})
 	return bus.New(m, api.Seg{Base: 0x40000000, Size: 40, R: true, W: true, X: true}, data)
-}
-
-// held answers all the bytes that a memory has, by the place where each page begins.
-func held(m *mem.Memory) map[uint32][api.Page]byte {
-	all := map[uint32][api.Page]byte{}
-	for _, begin := range m.Pages() {
-		all[begin] = [api.Page]byte(m.Read(begin, api.Page))
-	}
-	return all
-}
-
-// alike: have two buses the same segments and the same bytes?
-func alike(a, b *bus.Bus) bool {
-	codeA, dataA := a.Segs()
-	codeB, dataB := b.Segs()
-	return codeA == codeB && dataA == dataB && maps.Equal(held(a.Memory()), held(b.Memory()))
 }
 
 // counted answers how many bytes a size stands for.
@@ -131,12 +115,6 @@ func shapes() []api.Operand {
 		at(8, -9, 4, 0), at(api.EDX, api.ESP, 1, 0), at(api.ECX, api.EBP, -3, 0),
 		{Kind: api.Mem, Reg: 7, Base: api.EBX, Index: api.ECX, Scale: 2}, {Kind: api.Mem, Reg: -1, Base: api.EBX, Index: api.ECX, Scale: 2}, {Kind: api.Mem, Reg: 8, Base: -1, Index: -1, Scale: 1},
 	}
-}
-
-// aimed answers o with a Disp by which it is at off, be it that the sum goes round.
-func aimed(s api.State, o api.Operand, off uint32) api.Operand {
-	o.Disp = off - rest(s, o)
-	return o
 }
 
 // offs: places about a segment's first bytes and its last ones, and ones whose sum with its Base goes round to them.
