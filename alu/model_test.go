@@ -250,24 +250,8 @@ func (x *model) bare() {
 // each answers all instructions of the chapter, as decode.One tells them.
 func each() []api.Instr { return instrs.Of(alu.Is) }
 
-// aimed answers i with its place in memory, if it has one, at off.
-func aimed(s api.State, i api.Instr, off uint32) api.Instr {
-	if i.A.Kind == api.Mem {
-		i.A = machines.Aimed(s, i.A, off)
-	}
-	if i.B.Kind == api.Mem && i.Op != api.Lea {
-		i.B = machines.Aimed(s, i.B, off)
-	}
-	return i
-}
-
 // size: how many bytes data has in what follows.
 const size = 24
-
-// offs: places within, at the last bytes, across the end by one byte up to all, and before the beginning.
-func offs() []uint32 {
-	return []uint32{0, 5, size - 4, size - 3, size - 2, size - 1, size, 1 << 31, 1<<32 - 4, 1<<32 - 1}
-}
 
 // Each instruction at each of these places, all that it changes and that it doesn't.
 func TestEachInstruction(t *testing.T) {
@@ -275,8 +259,8 @@ func TestEachInstruction(t *testing.T) {
 	for k, i := range each() {
 		s := all[k%4]
 		m := machines.New(s, machines.Open(api.DataAt, size))
-		off := offs()[k/3%2]
-		i = aimed(s, i, off)
+		off := machines.Offs(size)[k/3%2]
+		i = machines.Aim(s, i, off)
 		want, end := expected(m, i)
 		done(t, "P15.2", m, i, want, end)
 	}
@@ -298,15 +282,11 @@ func shapes() []api.Instr {
 // Each shape at each place, of data that may be read and written, one of them, neither, or that isn't Right.
 func TestFails(t *testing.T) {
 	for k, i := range shapes() {
-		for rights := range 8 {
-			for n, off := range offs() {
+		for _, data := range machines.Shut(size) {
+			for n, off := range machines.Offs(size) {
 				s := states.All()[(k+n)%4]
-				data := api.Seg{Base: api.DataAt, Size: size, R: rights&1 == 0, W: rights&2 == 0}
-				if rights&4 != 0 {
-					data.Base = 1<<32 - size + 1 - uint32(n%2)
-				}
 				m := machines.New(s, data)
-				j := aimed(s, i, off)
+				j := machines.Aim(s, i, off)
 				want, end := expected(m, j)
 				done(t, "P15.3", m, j, want, end)
 			}
@@ -337,7 +317,7 @@ func TestNumbers(t *testing.T) {
 			s.F = api.Flags{C: r.Intn(2) > 0, P: r.Intn(2) > 0, Z: r.Intn(2) > 0, S: r.Intn(2) > 0, O: r.Intn(2) > 0, D: r.Intn(2) > 0}
 			m := machines.New(s, machines.Open(api.DataAt, size))
 			m.StoreAt(5, 4, uint64(pick()))
-			j := aimed(s, i, 5)
+			j := machines.Aim(s, i, 5)
 			if j.B.Kind == api.Imm && j.Size == 4 {
 				j.B.Disp = pick()
 			}
@@ -354,7 +334,7 @@ func TestNothingElse(t *testing.T) {
 			s := states.Full()
 			i.Len, s.IP, s.X = n, uint32(n), [8]uint64{}
 			m := machines.New(s, machines.Open(api.DataAt, size))
-			j := aimed(s, i, 5)
+			j := machines.Aim(s, i, 5)
 			want, end := expected(m, j)
 			done(t, "P15.1", m, j, want, end)
 			if want.State.IP != s.IP || want.State.X != s.X {
