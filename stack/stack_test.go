@@ -66,7 +66,7 @@ func TestPop(t *testing.T) {
 	}
 }
 
-// Data at the very end of a segment of nearly 2^32 bytes: ESP goes round it, though what is laid down doesn't.
+// Of a data segment of 2^32 - 1 bytes, the greatest one: its last four bytes are as good as others, and where ESP goes round 2^32 there is never room.
 func TestRound(t *testing.T) {
 	seg := machines.Open(0, 1<<32-1)
 	m := machines.Machine{State: states.Full(), Seg: seg}
@@ -82,7 +82,7 @@ func TestRound(t *testing.T) {
 	if v != 0x44332211 || s != m.State || end != api.Going {
 		t.Errorf("P16.1: Pop at the end: %#x, %+v, %d", v, s, end)
 	}
-	// Four bytes from 2^32 - 4 on would go one beyond that segment's end; so would those from 2^32 - 3 on go round.
+	// Four bytes from 2^32 - 4 on would go one beyond that segment's end; those from 2^32 - 3 on would go round.
 	for _, esp := range []uint32{0, 1, 3} {
 		s := want
 		s.R[api.ESP] = esp
@@ -96,7 +96,7 @@ func TestRound(t *testing.T) {
 	}
 }
 
-// Pop at the last four bytes of all memory: ESP is 0 behind it.
+// Pop of that segment's last four bytes: ESP is its size behind it.
 func TestRoundBehindPop(t *testing.T) {
 	m := machines.Machine{State: states.Full(), Seg: machines.Open(0, 1<<32-1)}
 	b := m.Bus()
